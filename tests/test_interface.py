@@ -1,0 +1,36 @@
+"""The interface: each name stands in its file, with its arguments."""
+
+import ast
+import importlib
+import os
+import unittest
+
+INTERFACE = {
+    "words": {"wrapped": ["number"], "twos": ["number"], "inverse": ["number"]},
+    "spans": {
+        "form": ["rows", "width"], "contains": ["rows", "width", "row"], "same_span": ["rows", "others", "width"],
+        "count_rows": ["rows", "width"], "equations": ["rows", "width"], "holds": ["rows", "width", "equation"],
+        "multipliers": ["rows", "width", "row"],
+    },
+}
+
+
+class InterfaceTest(unittest.TestCase):
+    def test_each_function_is_defined_in_its_file(self):
+        for module, functions in INTERFACE.items():
+            found = importlib.import_module("flowkeep." + module)
+            with open(found.__file__, encoding="utf-8") as file:
+                tree = ast.parse(file.read())
+            defined = {node.name: node for node in tree.body if isinstance(node, ast.FunctionDef)}
+            for name, arguments in functions.items():
+                self.assertIn(name, defined, module)
+                self.assertEqual([one.arg for one in defined[name].args.args], arguments, (module, name))
+                self.assertEqual(defined[name].args.defaults, [], (module, name))
+
+    def test_the_package_is_one_folder_at_the_top(self):
+        folder = os.path.dirname(importlib.import_module("flowkeep").__file__)
+        self.assertEqual(os.path.dirname(folder), os.path.dirname(os.path.dirname(os.path.abspath(__file__))))
+
+
+if __name__ == "__main__":
+    unittest.main()
