@@ -1,20 +1,15 @@
 """Spans of rows of words: all sums of products of the rows with words."""
 
 from flowkeep.errors import InvalidRow
-from flowkeep.words import SIZE, inverse, is_integer, is_word
+from flowkeep.words import SIZE, are_words, inverse, is_integer
 
 WIDEST = 16
 MOST_ROWS = 16
 
 
-def is_row(value, width):
-    """Return whether the value is a tuple of so many words."""
-    return isinstance(value, tuple) and len(value) == width and all([is_word(number) for number in value])
-
-
 def check_row(row, width):
     """Raise InvalidRow if the row is not one of the width."""
-    if not is_row(row, width):
+    if not are_words(row, width):
         raise InvalidRow("a row must be a tuple of as many words as the width tells")
 
 

@@ -52,3 +52,21 @@ def inverse(number):
     for _ in range(3):
         found = found * (2 - number * found) % SIZE
     return found
+
+
+def are_words(value, many):
+    """Return whether the value is a tuple of so many words."""
+    return isinstance(value, tuple) and len(value) == many and all([is_word(number) for number in value])
+
+
+def reckoned(kind, one, other):
+    """Return the word that a step of the kind makes of two words; no quotient by 0."""
+    if kind == "add":
+        return (one + other) % SIZE
+    if kind == "sub":
+        return (one - other) % SIZE
+    if kind in ("mul", "times"):
+        return one * other % SIZE
+    if kind == "div":
+        return one // other
+    return 1 if one < other else 0

@@ -12,6 +12,17 @@ INTERFACE = {
         "count_rows": ["rows", "width"], "equations": ["rows", "width"], "holds": ["rows", "width", "equation"],
         "multipliers": ["rows", "width", "row"],
     },
+    "powers": {
+        "is_formula": ["inputs", "value"], "value": ["formula", "values"], "normal": ["formula", "inputs"],
+        "same_function": ["one", "other", "inputs"], "parting": ["one", "other", "inputs"],
+        "degree": ["formula", "inputs"],
+    },
+    "graphs": {"is_graph": ["value"], "is_plain": ["value"], "names": ["graph"], "count_steps": ["graph"]},
+    "texts": {"format_graph": ["graph"], "parse_graph": ["text"]},
+    "running": {
+        "run": ["graph", "values", "answers", "most"], "visits": ["graph", "values", "answers", "most"],
+        "count_run": ["graph", "values", "answers", "most"],
+    },
 }
 
 
