@@ -1,6 +1,6 @@
 """Graphs: programs as blocks of steps, and what is one."""
 
-from flowkeep.errors import InvalidGraph
+from flowkeep.errors import InvalidBlock, InvalidGraph, NotPlain, TooMany
 from flowkeep.words import is_integer, is_word
 
 MOST_INPUTS = 4
@@ -146,17 +146,39 @@ def is_graph(value):
     return all([_are_steps(block[0], comers[at], len(blocks)) for at, block in enumerate(blocks)])
 
 
+def _has_choices(blocks):
+    """Return whether a choice stands in the blocks."""
+    return any([chooses(step) for steps, _ in blocks for step in steps])
+
+
 def is_plain(value):
     """Return whether the value is a graph without choices."""
-    if not is_graph(value):
-        return False
-    return not any([chooses(step) for block in value[1] for step in block[0]])
+    return is_graph(value) and not _has_choices(value[1])
 
 
 def check_graph(graph):
     """Raise InvalidGraph if the value is not a graph."""
     if not is_graph(graph):
         raise InvalidGraph("the value is not a graph")
+
+
+def check_plain(graph):
+    """Raise InvalidGraph if the value is not a graph, and NotPlain if it has choices."""
+    check_graph(graph)
+    if _has_choices(graph[1]):
+        raise NotPlain("the graph must have no choices")
+
+
+def check_block(graph, block):
+    """Raise InvalidBlock if the value is not the number of a block of the graph."""
+    if not _is_below(block, len(graph[1])):
+        raise InvalidBlock("the value is not the number of a block of the graph")
+
+
+def check_size(blocks):
+    """Raise TooMany if there are more blocks, or more steps in one of them, than a graph may have."""
+    if len(blocks) > MOST_BLOCKS or any([len(steps) > MOST_STEPS for steps, _ in blocks]):
+        raise TooMany("a graph has at most 40 blocks, and a block at most 60 steps")
 
 
 def given(step):
@@ -175,6 +197,27 @@ def reads(step):
 def end_reads(end):
     """Return the list of the names that the end reads."""
     return [] if end[0] == "go" else [end[1]]
+
+
+def reread(step, named):
+    """Return the step with other read names, which a dict tells by the old ones."""
+    if chooses(step):
+        return (step[0], step[1], tuple([(comer, named[name]) for comer, name in step[2]]))
+    ahead = 1 if given(step) is None else 2
+    parts = STEP_PARTS[step[0]][ahead - 1:]
+    return step[:ahead] + tuple([named[one] if part == "name" else one for one, part in zip(step[ahead:], parts)])
+
+
+def end_reread(end, named):
+    """Return the end with another read name, which a dict tells by the old one."""
+    return end if end[0] == "go" else (end[0], named[end[1]]) + end[2:]
+
+
+def with_goals(end, numbers):
+    """Return the end with other goals, which a dict tells by the old ones."""
+    if end[0] == "go":
+        return ("go", numbers[end[1]])
+    return end[:2] + tuple([numbers[goal] for goal in end[2:]])
 
 
 def step_names(step):

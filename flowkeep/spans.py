@@ -57,14 +57,10 @@ def with_power(row, place):
     return scaled(row, inverse(row[place] // power))
 
 
-def closed(rows):
-    """Return a dict of rows with the same span by the places of their first numbers, all powers of 2.
-
-    Each row of the span whose numbers ahead of a place are all 0 is in the span of those of these
-    rows for which this is so, too. The rows may be of any width.
-    """
-    found = {}
-    waiting = list(rows)
+def take_in(found, row):
+    """Add a row to the span of rows told as `closed` tells them; return whether it was not in the span."""
+    grown = False
+    waiting = [row]
     while waiting:
         row = waiting.pop()
         place = lead(row)
@@ -74,11 +70,24 @@ def closed(rows):
         if place in found and row[place] >= found[place][place]:
             waiting.append(lessened(row, row[place] // found[place][place], found[place]))
             continue
+        grown = True
         if place in found:
             waiting.append(found[place])
         found[place] = row
         # What makes the first number go round to 0 may leave something behind it.
         waiting.append(scaled(row, SIZE // row[place]))
+    return grown
+
+
+def closed(rows):
+    """Return a dict of rows with the same span by the places of their first numbers, all powers of 2.
+
+    Each row of the span whose numbers ahead of a place are all 0 is in the span of those of these
+    rows for which this is so, too. The rows may be of any width.
+    """
+    found = {}
+    for row in rows:
+        take_in(found, row)
     return found
 
 

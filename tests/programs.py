@@ -42,6 +42,23 @@ ALL = (("a", "b"), (
     ((("choose", "n", ()),), ("give", "n")),
 ))
 
+
+
+def shaped(*rows):
+    """Return a graph without steps whose blocks have these goals, at most two each."""
+    ends = {0: lambda row: ("give", "x"), 1: lambda row: ("go", *row), 2: lambda row: ("pick", "x", *row)}
+    return ((), tuple(((), ends[len(row)](row)) for row in rows))
+
+
+ONE = shaped(())
+ROUND = shaped((0, 0))
+# Block 0 has comers, block 2 goes to itself, block 5 can't be come to and goes on to block 1 and itself.
+ODD = shaped((3, 1), (2,), (2, 4), (1, 1), (0, 6), (1, 5), ())
+# Two blocks go on to each other, and both can be come to first.
+TANGLE = shaped((1, 2), (2, 3), (1, 3), ())
+# Three loops, each one in the next one; block 3 goes to itself, and two back edges lead to block 1.
+NESTED = shaped((1,), (2, 7), (3, 5), (3, 4), (2,), (1, 6), (1,), ())
+
 NAMES = ("a", "b", "c", "d", "e1", "longer")
 
 

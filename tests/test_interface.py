@@ -23,6 +23,23 @@ INTERFACE = {
         "run": ["graph", "values", "answers", "most"], "visits": ["graph", "values", "answers", "most"],
         "count_run": ["graph", "values", "answers", "most"],
     },
+    "flow": {
+        "after": ["graph", "block"], "before": ["graph", "block"], "reachable": ["graph"], "order": ["graph"],
+        "is_way": ["graph", "value"], "shortest": ["graph", "block"], "ways_to": ["graph", "block", "most"],
+    },
+    "linear": {
+        "states_at": ["graph", "block"], "equations_at": ["graph", "block"], "breaking": ["graph", "block", "equation"],
+        "count_values": ["graph", "way"], "walk": ["graph", "way", "values"], "known_at": ["graph", "block"],
+        "equal_at": ["graph", "block", "name"],
+    },
+    "ruling": {
+        "rulers": ["graph", "block"], "ruler": ["graph", "block"], "tree": ["graph"], "fringe": ["graph", "block"],
+        "whole_fringe": ["graph", "blocks"], "must_pass": ["graph", "block"],
+    },
+    "loops": {
+        "back_edges": ["graph"], "heads": ["graph"], "loop": ["graph", "head"], "depth": ["graph", "block"],
+        "outer": ["graph", "head"], "tangles": ["graph"],
+    },
 }
 
 
