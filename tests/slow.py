@@ -137,3 +137,70 @@ def told_single(graph):
                 return False
             came = block
     return True
+
+
+def told_live(graph, block):
+    """Return the names that are read on some row from the block on ahead of being given in it."""
+    found = set()
+    for row in rows_from(graph, block, len(graph[1]) + 1):
+        given = set()
+        for at in row:
+            steps, end = graph[1][at]
+            for step in steps:
+                found |= set(step_reads(step)) - given
+                given |= {step_gives(step)}
+            found |= set(end_reads(end)) - given
+    return tuple(sorted(found))
+
+
+def told_reaching(graph, block):
+    """Return the steps whose names reach the block on some way of at most twice as many blocks as there are."""
+    found = set()
+    for way in rows_from(graph, 0, 2 * len(graph[1])):
+        if way[-1] == block:
+            last = {}
+            for at in way[:-1]:
+                for place, step in enumerate(graph[1][at][0]):
+                    last[step_gives(step)] = (at, place)
+            last.pop(None, None)
+            found |= set(last.values())
+    return tuple(sorted(found))
+
+
+def told_expression(step):
+    return (step[0],) + step[2:] if step[0] in ("add", "sub", "mul", "less", "times") else None
+
+
+def in_text_sequence(expressions):
+    return tuple(sorted(expressions, key=lambda one: " ".join(str(part) for part in one)))
+
+
+def told_at_hand(graph, block):
+    """Return the expressions that are at hand on all ways of at most twice as many blocks as there are."""
+    found = None
+    for way in rows_from(graph, 0, 2 * len(graph[1])):
+        if way[-1] == block:
+            hand = set()
+            for at in way[:-1]:
+                for step in graph[1][at][0]:
+                    hand |= {told_expression(step)} - {None}
+                    hand = {one for one in hand if step_gives(step) not in one[1:]}
+            found = hand if found is None else found & hand
+    return in_text_sequence(found or ())
+
+
+def told_needed(graph, block):
+    """Return the expressions that are reckoned ahead of a change on all rows; a longer row goes round."""
+    found = None
+    many = len(graph[1])
+    for row in rows_from(graph, block, many + 1):
+        if len(row) == many + 1 or graph[1][row[-1]][1][0] == "give":
+            need, given = set(), set()
+            for at in row:
+                for step in graph[1][at][0]:
+                    one = told_expression(step)
+                    if one and not given & set(one[1:]):
+                        need.add(one)
+                    given |= {step_gives(step)} - {None}
+            found = need if found is None else found & need
+    return in_text_sequence(found or ())

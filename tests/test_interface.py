@@ -40,6 +40,15 @@ INTERFACE = {
         "back_edges": ["graph"], "heads": ["graph"], "loop": ["graph", "head"], "depth": ["graph", "block"],
         "outer": ["graph", "head"], "tangles": ["graph"],
     },
+    "facts": {
+        "live": ["graph", "block"], "reaching": ["graph", "block"], "at_hand": ["graph", "block"],
+        "needed": ["graph", "block"],
+    },
+    "shaping": {"trimmed": ["graph"]},
+    "single": {
+        "single": ["graph"], "is_single": ["value"], "in_sequence": ["pairs", "spare"], "plain": ["graph"],
+    },
+    "classes": {"classes": ["graph"], "shared": ["graph"]},
 }
 
 
