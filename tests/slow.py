@@ -47,6 +47,17 @@ def rulers_left_out(graph):
     return found
 
 
+def told_fringe(graph, ruled, block):
+    """Return the fringe of the block, as the document tells it."""
+    whole = reached(graph, [0])
+    found = []
+    for goal in range(len(graph[1])):
+        comers = [comer for comer, (_, end) in enumerate(graph[1]) if goal in goals_of(end) and comer in whole]
+        if any(block in ruled[comer] for comer in comers) and (goal == block or block not in ruled[goal]):
+            found.append(goal)
+    return tuple(found)
+
+
 def step_reads(step):
     """Return the names that a step other than a choice reads."""
     kind = step[0]

@@ -6,19 +6,8 @@ import unittest
 from flowkeep.errors import InvalidBlock
 from flowkeep.ruling import fringe, must_pass, ruler, rulers, tree, whole_fringe
 from tests.arguments import check_arguments
-from tests.programs import D, K, L, ODD, ONE, ROUND, TANGLE, goals_of, random_graph, shaped
-from tests.slow import edges_of, reached, rows_from, rulers_left_out, told_rulers
-
-
-def told_fringe(graph, ruled, block):
-    """Return the fringe of the block, as the document tells it."""
-    whole = reached(graph, [0])
-    found = []
-    for goal in range(len(graph[1])):
-        comers = [comer for comer, (_, end) in enumerate(graph[1]) if goal in goals_of(end) and comer in whole]
-        if any(block in ruled[comer] for comer in comers) and (goal == block or block not in ruled[goal]):
-            found.append(goal)
-    return tuple(found)
+from tests.programs import D, K, L, ODD, ONE, ROUND, TANGLE, random_graph, shaped
+from tests.slow import edges_of, rows_from, rulers_left_out, told_fringe, told_rulers
 
 
 class ExamplesTest(unittest.TestCase):

@@ -14,8 +14,8 @@ from tests.programs import ALL, D, K, L, NESTED, ODD, TANGLE, goals_of, random_g
 from tests.samples import oddities
 from tests.singles import check_meaning, drawn, random_single
 from tests.slow import (
-    edges_of, end_reads, reached, rows_from, rulers_left_out, step_gives, step_reads, told_live, told_single)
-from tests.test_ruling import told_fringe
+    edges_of, end_reads, reached, rows_from, rulers_left_out, step_gives, step_reads, told_fringe, told_live,
+    told_single)
 
 SINGLE_L = (
     "given v0;block 0;v1 = 0;v2 = 0;v3 = 1;go 1;block 1;v4 = choose 0 v2 2 v8;v5 = choose 0 v1 2 v7;v6 = v4 < v0;pick v6 2 3;"
