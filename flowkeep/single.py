@@ -77,7 +77,7 @@ def check_single(graph):
         raise NotSingle("the graph must be in single form")
 
 
-def _with_entry(blocks):
+def with_entry(blocks):
     """Return the blocks, behind a new block 0 if some block goes on to block 0."""
     if not comers_of(blocks)[0]:
         return blocks
@@ -171,7 +171,7 @@ def single(graph):
     """Return a graph in single form with the same meaning as the plain graph."""
     check_plain(graph)
     inputs = graph[0]
-    renamer = Renamer(inputs, _with_zeros(inputs, _with_entry(trimmed_blocks(graph[1]))))
+    renamer = Renamer(inputs, _with_zeros(inputs, with_entry(trimmed_blocks(graph[1]))))
     blocks = renamer.result()
     check_size(blocks)
     return (tuple([renamer.inputs[name] for name in inputs]), blocks)

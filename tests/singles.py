@@ -107,3 +107,36 @@ def check_meaning(test, old, new, chance, times=6, most=300):
         else:
             least = min(len(shown), len(its))
             test.assertEqual(shown[:least], its[:least], (old, new, values, answers))
+
+
+def given_values(graph, values, answers, most):
+    """Yield the block, the name and the word of each step that a run of at most so many steps gives a name by."""
+    named = dict(zip(graph[0], values))
+    cells, waiting = [0] * 4, list(answers)
+    block, came = 0, None
+    while most > 0:
+        steps, end = graph[1][block]
+        chosen = {step[1]: named[dict(step[2])[came]] for step in steps if step[0] == "choose"}
+        named.update(chosen)
+        for name, word in chosen.items():
+            yield block, name, word
+        for step in steps[len(chosen):]:
+            get = [named[part] if isinstance(part, str) and part in named else part for part in step]
+            kind = step[0]
+            if kind == "div" and get[3] == 0:
+                return
+            if kind == "write":
+                cells[step[1]] = get[2]
+            elif kind != "show":
+                named[step[1]] = {
+                    "set": lambda: get[2], "copy": lambda: get[2], "add": lambda: get[2] + get[3], "sub": lambda: get[2] - get[3],
+                    "mul": lambda: get[2] * get[3], "times": lambda: get[2] * get[3], "div": lambda: get[2] // get[3],
+                    "less": lambda: int(get[2] < get[3]), "ask": lambda: waiting.pop(0) if waiting else 0,
+                    "read": lambda: cells[step[2]],
+                }[kind]() % 65536
+                yield block, step[1], named[step[1]]
+        if end[0] == "give":
+            return
+        most -= len(steps) + 1
+        came = block
+        block = end[1] if end[0] == "go" else end[2] if named[end[1]] else end[3]

@@ -49,6 +49,10 @@ INTERFACE = {
         "single": ["graph"], "is_single": ["value"], "in_sequence": ["pairs", "spare"], "plain": ["graph"],
     },
     "classes": {"classes": ["graph"], "shared": ["graph"]},
+    "constants": {"constants": ["graph"], "entered": ["graph"], "folded": ["graph"]},
+    "rounds": {"is_counted": ["graph", "head"], "rounds": ["graph", "head"]},
+    "cleaning": {"swept": ["graph"], "uncopied": ["graph"], "joined": ["graph"], "jumped": ["graph"]},
+    "motion": {"lifted": ["graph"], "reckonings": ["graph", "way"]},
 }
 
 
