@@ -1,7 +1,8 @@
 """Wrong arguments of each kind, at each argument, alone and beside other wrong ones."""
 
 from flowkeep.errors import (
-    InvalidBlock, InvalidGraph, InvalidName, InvalidNumber, InvalidRow, InvalidValues, InvalidWay, NotPlain, NotSingle)
+    InvalidBlock, InvalidGraph, InvalidName, InvalidNumber, InvalidPaper, InvalidPass, InvalidRow, InvalidValues, InvalidWay,
+    NotPlain, NotSingle)
 from tests.programs import ALL, D, L
 from tests.samples import no_words, oddities
 
@@ -26,6 +27,14 @@ WRONG = {
     "way": [(InvalidWay, oddities() + [
         (), 0, (1,), (0, 0), (0, 2), (0, 1, 0), (0, 1, 2, 3), [0, 1], (0, 4), (0, -3), (0, 1.0), (0, True), (False, 1), (0.0,),
         (None,), (0, None), (0, "1"), ((0,),), (0, (1,)), (0, 1, [2]), (-4, 1), (0,) + (1, 2) * 10000, {0: 1}, "01"])],
+    "paper": [(InvalidPaper, oddities() + [
+        (), 0, ((0, 1),) * 3, ((0, 1),) * 5, [(0, 1)] * 4, ((0, 1), (1, 1), (2, 1), (4, 1)), ((0, 9),) * 4, ((0, 1),) * 3 + ((True, 1),),
+        ((0, 1),) * 3 + ((0, -1),), ((0, 1),) * 3 + ([0, 1],), ((0, 1, 1),) * 4, (0, 1, 2, 3), "0123"])],
+    "pass": [(InvalidPass, oddities() + [
+        0, (), "Plain", "plain ", "led", "passes", "", "trimmed;plain", ("plain",), ["plain"], {"plain": 1}, b"plain", "folde", "swept\n"])],
+    "names": [(InvalidPass, [value for value in oddities() if value != ()] + [
+        0, "plain", ["plain"], ("plain", None), ("plain", "Plain"), (("plain",),), ("trimmed",) * 13, {"plain": 1}, ("plain", True), (1,),
+        ("plain", ["plain"]), ("", "plain"), ("trimmed",) * 12 + ("x",)])],
     "values": [(InvalidValues, oddities() + [(), 3, (1,), (1, 2, 3), [1, 2], "12", {0: 1, 1: 2}] + [
         pair for word in no_words() for pair in ((word, 1), (1, word))])],
 }

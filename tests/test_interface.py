@@ -53,10 +53,28 @@ INTERFACE = {
     "rounds": {"is_counted": ["graph", "head"], "rounds": ["graph", "head"]},
     "cleaning": {"swept": ["graph"], "uncopied": ["graph"], "joined": ["graph"], "jumped": ["graph"]},
     "motion": {"lifted": ["graph"], "reckonings": ["graph", "way"]},
+    "boxes": {"most_at_once": ["graph"], "together": ["graph"], "boxes": ["graph"], "in_boxes": ["graph"]},
+    "papers": {"is_paper": ["old", "new", "value"], "agrees": ["old", "new", "paper"]},
+    "finding": {"paper": ["old", "new"], "shows_same": ["old", "new"]},
+    "benches": {"passes": [], "led_through": ["graph", "names"]},
+}
+
+
+BENCH = {
+    "__init__": ["self", "graph"], "lead": ["self", "name"], "graph": ["self"], "names": ["self"], "papers": ["self"],
+    "undo": ["self"], "redo": ["self"], "__len__": ["self"], "__eq__": ["self", "other"],
 }
 
 
 class InterfaceTest(unittest.TestCase):
+    def test_benches(self):
+        found = importlib.import_module("flowkeep.benches")
+        with open(found.__file__, encoding="utf-8") as file:
+            tree = ast.parse(file.read())
+        bench = [node for node in tree.body if isinstance(node, ast.ClassDef) and node.name == "Bench"][0]
+        methods = {node.name: [one.arg for one in node.args.args] for node in bench.body if isinstance(node, ast.FunctionDef)}
+        self.assertEqual(methods, BENCH)
+
     def test_each_function_is_defined_in_its_file(self):
         for module, functions in INTERFACE.items():
             found = importlib.import_module("flowkeep." + module)
