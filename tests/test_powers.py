@@ -349,6 +349,78 @@ class DegreeTest(unittest.TestCase):
             self.assertEqual(degree(formula, inputs), max(sums + [0]))
 
 
+def told_normal(formula, inputs):
+    """Return the normal form, by the differences of the values at all points from 0 to 17."""
+    found = []
+    values = {point: told_value(formula, point) for point in itertools.product(range(18), repeat=inputs)}
+    for point in sorted(values):
+        difference = sum(
+            (-1) ** (sum(point) - sum(other)) * math.prod(math.comb(one, its) for one, its in zip(point, other)) * values[other]
+            for other in itertools.product(*(range(one + 1) for one in point)))
+        power = power_of(point)
+        if power < 65536:
+            odd = math.prod(math.factorial(part) for part in point) // power
+            number = difference // power * pow(odd, -1, 65536) % (65536 // power)
+            if number:
+                found.append((point, number))
+    return tuple(found)
+
+
+class DegreesTest(unittest.TestCase):
+    """Only as many points are looked at as the powers in a formula ask for; they must be enough."""
+
+    def test_one_input_by_all_points(self):
+        chance = random.Random(8)
+        for _ in range(60):
+            formula = random_formula(chance, 1, chance.randrange(1, 9))
+            self.assertEqual(normal(formula, 1), told_normal(formula, 1))
+
+    def test_two_inputs_by_all_points(self):
+        chance = random.Random(9)
+        for _ in range(4):
+            formula = mul(random_formula(chance, 2, 4), add(mul(X, mul(X, Y)), random_formula(chance, 2, 4)))
+            self.assertEqual(normal(formula, 2), told_normal(formula, 2))
+
+    def test_powers_above_17(self):
+        square = mul(X, X)
+        eighth = mul(mul(square, square), mul(square, square))
+        sixteenth = mul(eighth, eighth)
+        for formula in (sixteenth, mul(sixteenth, X), mul(sixteenth, square), mul(sixteenth, sixteenth), mul(mul(sixteenth, sixteenth), X)):
+            self.assertEqual(normal(formula, 1), told_normal(formula, 1))
+            for word in (0, 1, 2, 3, 17, 18, 255, 32768, 65535):
+                self.assertEqual(value_of_normal(normal(formula, 1), (word,)), told_value(formula, (word,)))
+                self.assertEqual(value_of_normal(normal(mul(formula, Y), 2), (word, 5)), told_value(mul(formula, Y), (word, 5)))
+
+    def test_points_that_part_formulas_of_unlike_powers(self):
+        self.assertEqual(parting(mul(num(32768), mul(X, mul(X, X))), mul(num(32768), X), 1), None)
+        self.assertEqual(parting(mul(num(16384), mul(X, mul(X, X))), mul(num(16384), X), 1), (2,))
+        self.assertEqual(parting(mul(X, Y), mul(X, mul(Y, Y)), 2), (1, 2))
+        self.assertEqual(parting(num(3), mul(mul(Y, Y), num(3)), 2), (0, 0))
+        self.assertEqual(parting(X, mul(mul(Y, Y), num(3)), 2), (0, 1))
+
+    def test_points_far_out_in_both_inputs(self):
+        # x (x - 1) .. (x - 5) y (y - 1) .. (y - 7) is a multiple of 2 to the 4th times 2 to the 7th.
+        first = mul(mul(mul(X, sub(X, num(1))), mul(sub(X, num(2)), sub(X, num(3)))), mul(sub(X, num(4)), sub(X, num(5))))
+        other = mul(mul(mul(Y, sub(Y, num(1))), mul(sub(Y, num(2)), sub(Y, num(3)))), mul(mul(sub(Y, num(4)), sub(Y, num(5))), mul(sub(Y, num(6)), sub(Y, num(7)))))
+        for factor, same in ((16, False), (32, True), (31, False), (64, True)):
+            formula = mul(num(factor), mul(first, other))
+            self.assertIs(same_function(formula, num(0), 2), same)
+            self.assertEqual(parting(formula, num(0), 2), None if same else (6, 8))
+            self.assertEqual(normal(formula, 2) == (), same)
+
+    def test_many_thousands_of_calls(self):
+        h = mul(add(X, Y), sub(X, num(3)))
+        for _ in range(5):
+            h = mul(h, add(Y, num(7)))
+        for at in range(6000):
+            other = num(at)
+            self.assertIs(same_function(X, other, 2), False)
+        for at in range(1500):
+            self.assertIs(same_function(h, (h[0], h[2], h[1]), 2), True)
+            self.assertEqual(normal(h, 2)[-1][0], (2, 5))
+            self.assertEqual(degree(h, 2), 7)
+
+
 class ArgumentsTest(unittest.TestCase):
     calls = [
         lambda formula, inputs: normal(formula, inputs), lambda formula, inputs: degree(formula, inputs),
