@@ -5,8 +5,8 @@ from flowkeep.shaping import renumbered
 from flowkeep.single import check_single
 from flowkeep.words import reckoned
 
-# Stands in the place of a word for several values.
-SEVERAL = -1
+# Stands in the place of a word for several values; it is none.
+SEVERAL = 65536
 
 
 class Tracer:

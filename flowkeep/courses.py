@@ -26,10 +26,10 @@ class Meeting:
     def copied(self):
         """Return a meeting at which the same is known."""
         found = Meeting(self.catalog)
-        found.arrivals = dict(self.arrivals)
+        found.arrivals = {edge: arrival for edge, arrival in self.arrivals.items()}
         found.rows = dict(self.rows)
         found.expressions = dict(self.expressions)
-        found.divisors = dict(self.divisors)
+        found.divisors = {form: True for form in self.divisors}
         return found
 
     def take(self, edge, arrival):
@@ -37,8 +37,8 @@ class Meeting:
         expressions = list(self.expressions)
         divisors = list(self.divisors)
         if edge not in self.arrivals:
-            expressions.extend([place for place in arrival.listed_expressions() if place not in self.expressions])
             divisors.extend([form for form in arrival.listed_divisors() if form not in self.divisors])
+            expressions.extend([place for place in arrival.listed_expressions() if place not in self.expressions])
         self.arrivals[edge] = arrival
         changed = self.keep_divisors(divisors)
         if self.keep_expressions(expressions):
@@ -94,6 +94,8 @@ class Meeting:
 
 def _value_of(form, columns):
     """Return the value of the form, if a dict tells those of places."""
+    if len(form) == 1 and form[0][1] == 1:
+        return columns.get(form[0][0], ())
     return summed([(columns.get(place, ()), factor) for place, factor in form])
 
 
@@ -212,8 +214,8 @@ class Passage:
         self.fits = row_fits and old.events == new.events
         if self.fits and not old.stopped:
             self.fits = self.perform_ends(old, new)
-        desk.passed.update(old.passed)
-        desk.passed.update(new.passed)
+        for divisor in list(old.passed) + list(new.passed):
+            desk.passed[divisor] = True
 
     def perform_row(self, old):
         """Perform the old blocks; return whether they can only be gone through so."""

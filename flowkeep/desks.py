@@ -204,12 +204,14 @@ class Arrival:
 
     def value(self, form):
         """Return the value of the form, or None if nothing tells it."""
+        if len(form) == 1 and form[0][1] == 1:
+            return self.part(form[0][0])
         parts = [(self.part(place), factor) for place, factor in form]
         return None if any([one is None for one, _ in parts]) else summed(parts)
 
     def listed_expressions(self):
-        """Return the list of the places of expressions that tell what has been made, each behind those in its forms."""
-        places = []
+        """Return the dict of True by the places of expressions that tell what has been made."""
+        places = {}
         for kind, one, other, its_one, its_other in self.desk.made:
             for first in self.holders(one, its_one):
                 for second in self.holders(other, its_other):
@@ -217,7 +219,7 @@ class Arrival:
         return places
 
     def list_expression(self, kind, one, other, places):
-        """Add the place of the expression to the list, unless the expression is told wherever its forms are."""
+        """List the place of the expression, unless the expression is told wherever its forms are."""
         words = [word_of(one), word_of(other)]
         if None not in words or (kind == "mul" and words != [None, None]):
             return
@@ -225,7 +227,7 @@ class Arrival:
             one, other = min(one, other), max(one, other)
         place = self.catalog.place_of((kind, one, other))
         if place not in places:
-            places.append(place)
+            places[place] = True
             self.holding.setdefault(self.part(place), []).append(unknown_sum(place))
 
     def is_passed(self, form):

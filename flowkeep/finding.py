@@ -8,8 +8,8 @@ from flowkeep.papers import LONGEST_ROW, agrees_so
 # A search is given up behind so much work, and so many changes of mind on one course.
 MOST_WORK = 4000
 MOST_CHANGES = 9
-# A passage through a new block is one piece of work for each so many values of names and cells.
-PIECE = 64
+# A passage through a new block is one piece of work, and one more for each so many values and results.
+PIECE = 256
 # How unlike marks without a partner, and ends of unlike kinds, make a new block and a row of old ones.
 HEAVY = 64
 LIGHT = 8
@@ -178,7 +178,7 @@ class Search:
             if self.left <= 0:
                 return None
             passage = course.passage(course.next_block())
-            self.left -= 1 + len(passage.desk.held) // PIECE
+            self.left -= 1 + (len(passage.desk.held) + len(passage.desk.made)) // PIECE
             if not passage.fits:
                 return None
             for goal, old_goal in passage.crossings:

@@ -92,7 +92,7 @@ class Lifter:
 
     def lifted_steps(self, block):
         """Return the list of the steps of the block, which read what is kept of expressions."""
-        ready = dict(self.ready[block])
+        ready = {one: True for one in self.ready[block]}
         found = list(self.ahead[block])
         for step in self.blocks[block][0]:
             expression = expression_of(step)

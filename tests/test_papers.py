@@ -440,6 +440,17 @@ class MeaningTest(unittest.TestCase):
         self.assertIs(agrees(graph, graph, paper), True)
 
 
+    def test_long_rows_of_products(self):
+        for kind in ("mul", "div", "less"):
+            first = ((("mul", "t", "a", "b"),) + ((kind, "t", "t", "a"),) * 50, ("go", 1))
+            blocks = (first,) + tuple((((kind, "t", "t", "a"),) * 50, ("pick", "b", at + 1, max(at - 1, 1))) for at in range(1, 12))
+            graph = (("a", "b"), blocks + (((), ("give", "t")),))
+            paper = tuple((block, 1) for block in range(13))
+            self.assertIs(agrees(graph, graph, paper), True)
+            other = (("a", "b"), blocks + (((("add", "t", "t", "a"),), ("give", "t")),))
+            self.assertIs(agrees(graph, other, paper), False)
+
+
 class ArgumentsTest(unittest.TestCase):
     def test_wrong_arguments(self):
         for graph in NO_GRAPHS:
