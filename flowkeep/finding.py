@@ -6,7 +6,7 @@ from flowkeep.graphs import check_graph, chooses
 from flowkeep.papers import LONGEST_ROW, agrees_so
 
 # A search is given up behind so much work, and so many changes of mind on one course.
-MOST_WORK = 4000
+MOST_WORK = 3000
 MOST_CHANGES = 9
 # A passage through a new block is one piece of work, and one more for each so many values and results.
 PIECE = 256
