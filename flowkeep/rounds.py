@@ -44,7 +44,7 @@ def _other_name(step, name):
 def _added_name(graph, inner, name, count):
     """Return what a step of the loop adds to the count to give the name, or None."""
     block, place = givers_of(graph)[name]
-    return _other_name(graph[1][block][0][place], count) if block in inner and place >= 0 else None
+    return _other_name(graph[1][block][0][place], count) if block in inner else None
 
 
 def _count_of(graph, head, inner):

@@ -240,6 +240,33 @@ class ProductsTest(unittest.TestCase):
         old = "given a b;block 0;k = 7;x = a * b;x = x + k;go 1;block 1;y = a * b;give y"
         self.assertIs(shows(old, "given a b;block 0;k = 7;x = a * b;x = x + k;go 1;block 1;y = x - k;give y"), True)
 
+    def test_kept_over_blocks_that_do_not_reckon_them(self):
+        for sign in "*/<":
+            old = f"given a b n;block 0;x = a {sign} b;go 1;block 1;show a;pick n 1 2;block 2;y = a {sign} b;give y"
+            new = f"given a b n;block 0;x = a {sign} b;go 1;block 1;show a;pick n 1 2;block 2;give x"
+            self.assertIs(shows(old, new), True)
+            self.assertIs(shows(old.replace("show a", "show a;b = n"), new.replace("show a", "show a;b = n")), False)
+
+    def test_operands_told_by_sums_with_words(self):
+        old = "given a c;block 0;k = 5;s = a + k;p = s * c;s = z;k = z;go 1;block 1;k = 5;t = k + a;q = t * c;give q"
+        self.assertIs(shows(old, "given a c;block 0;k = 5;s = a + k;p = s * c;s = z;k = z;go 1;block 1;give p"), True)
+        self.assertIs(shows(old.replace("k = 5;t", "k = 6;t"), "given a c;block 0;k = 5;s = a + k;p = s * c;s = z;k = z;go 1;block 1;give p"), False)
+
+    def test_products_of_products_that_one_edge_does_not_have(self):
+        old = "given a b c;block 0;pick a 1 2;block 1;t = a * b;t = t * c;u = t;go 3;block 2;{}go 3;block 3;t = a * b;t = t * c;give t"
+        new = "given a b c;block 0;pick a 1 2;block 1;t = a * b;t = t * c;u = t;go 3;block 2;{}go 3;block 3;give u"
+        self.assertIs(shows(old.format("u = z;"), new.format("u = z;")), False)
+        self.assertIs(shows(old.format("t = a * b;"), new.format("t = a * b;")), False)
+        same = "t = a * b;t = t * c;u = t;t = z;"
+        self.assertIs(shows(old.format(same), new.format(same)), True)
+
+    def test_words_on_one_edge_and_products_on_the_other(self):
+        old = "given a n;block 0;k = 1;go 1;block 1;show p;i = i + k;p = i * i;pick n 1 2;block 2;q = i * i;give q"
+        self.assertIs(shows(old, "given a n;block 0;k = 1;go 1;block 1;show p;i = i + k;p = i * i;pick n 1 2;block 2;give p"), True)
+        old = "given a n;block 0;k = 1;go 1;block 1;q = i * i;show q;i = i + k;pick n 1 2;block 2;give n"
+        self.assertIs(shows(old, "given a n;block 0;k = 1;go 1;block 1;show p;i = i + k;p = i * i;pick n 1 2;block 2;give n"), True)
+        self.assertIs(shows(old, "given a n;block 0;k = 1;p = 1;go 1;block 1;show p;i = i + k;p = i * i;pick n 1 2;block 2;give n"), False)
+
     def test_unlike_unknown_words(self):
         self.assertIs(shows("given a b;block 0;x = a * a;give x", "given a b;block 0;x = a * b;give x"), False)
         self.assertIs(shows("given a b;block 0;x = a < b;give x", "given a b;block 0;x = a * b;give x"), False)
@@ -299,6 +326,34 @@ class EventsTest(unittest.TestCase):
         old = "given a b;block 0;q = a / b;go 1;block 1;r = a / b;show r;go 2;block 2;r = b / b;give q"
         self.assertIs(shows(old, "given a b;block 0;q = a / b;go 1;block 1;show q;go 2;block 2;give q"), True)
         self.assertIs(shows(old, "given a b;block 0;go 1;block 1;q = a / b;show q;go 2;block 2;give q"), False)
+
+    def test_divisors_that_have_been_passed_in_other_blocks(self):
+        # What was divided is not known any more, but the divisor is.
+        old = "given a b c;block 0;x = ask;q = x / b;show q;x = z;q = z;go 1;block 1;{}r = c / b;give c"
+        new = "given a b c;block 0;x = ask;q = x / b;show q;x = z;q = z;go 1;block 1;{}give c"
+        self.assertIs(shows(old.format(""), new.format("")), True)
+        self.assertIs(shows(old.format("b = ask;"), new.format("b = ask;")), False)
+        self.assertIs(shows(old.format("b = z;"), new.format("b = z;")), False)
+        self.assertIs(shows(old.format("d = b;b = d;"), new.format("")), True)
+        old = old.replace("x = z;", "x = z;d = b;b = z;").replace("c / b", "c / d")
+        self.assertIs(shows(old.format(""), new.format("")), True)
+
+    def test_divisors_that_have_been_passed_on_all_edges(self):
+        old = "given a b c;block 0;pick a 1 2;block 1;x = ask;q = x / b;x = z;q = z;go 3;block 2;{}go 3;block 3;r = c / b;give c"
+        new = "given a b c;block 0;pick a 1 2;block 1;x = ask;q = x / b;x = z;q = z;go 3;block 2;{}go 3;block 3;give c"
+        self.assertIs(shows(old.format(""), new.format("")), False)
+        self.assertIs(shows(old.format("x = a / c;"), new.format("x = a / c;")), False)
+        for passing in ("x = ask;x = x / b;x = z;", "k = 1;b = a * 2;b = b + k;", "b = 7;", "b = c;x = ask;x = x / c;x = z;"):
+            self.assertIs(shows(old.format(passing), new.format(passing)), True, passing)
+        for other in ("b = 0;", "k = 2;b = a * 2;b = b + k;", "b = ask;"):
+            self.assertIs(shows(old.format(other), new.format(other)), False, other)
+
+    def test_divisors_that_are_passed_in_a_loop(self):
+        old = "given a b n;block 0;x = ask;q = x / b;x = z;q = z;go 1;block 1;show n;{}q = n / b;q = z;pick n 1 2;block 2;give n"
+        new = "given a b n;block 0;x = ask;q = x / b;x = z;q = z;go 1;block 1;show n;{}pick n 1 2;block 2;give n"
+        self.assertIs(shows(old.format(""), new.format("")), True)
+        self.assertIs(shows(old.format("n = b - n;"), new.format("n = b - n;")), True)
+        self.assertIs(shows(old.format("b = b - n;"), new.format("b = b - n;")), False)
 
     def test_nothing_is_compared_behind_a_quotient_by_0(self):
         old = "given a;block 0;q = a / z;show a;give q"
