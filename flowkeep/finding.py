@@ -6,10 +6,12 @@ from flowkeep.graphs import check_graph, chooses
 from flowkeep.papers import LONGEST_ROW, agrees_so
 
 # A search is given up behind so much work, and so many changes of mind on one course.
-MOST_WORK = 3000
+MOST_WORK = 2000
 MOST_CHANGES = 9
 # A passage through a new block is one piece of work, and one more for each so many values and results.
 PIECE = 256
+# Graphs of at most so many blocks are small.
+SMALL = 8
 # How unlike marks without a partner, and ends of unlike kinds, make a new block and a row of old ones.
 HEAVY = 64
 LIGHT = 8
@@ -216,14 +218,64 @@ def _found(pair):
     return None
 
 
+def _ascending_rows(numbers, many):
+    """Return the list of the ascending tuples of so many of the numbers, which are ascending."""
+    rows = [()]
+    for number in numbers:
+        rows = rows + [(*row, number) for row in rows if len(row) < many]
+    return [row for row in rows if len(row) == many]
+
+
+def _length_up_to(blocks, start, starts):
+    """Return how many blocks goes lead over from the start on, as long as they do not lead to one of the starts."""
+    length = 1
+    end = blocks[start][1]
+    while end[0] == "go" and end[1] not in starts and length < LONGEST_ROW:
+        length += 1
+        end = blocks[end[1]][1]
+    return length
+
+
+def _known_papers(old, new):
+    """Return a list of papers for two small graphs.
+
+    One of them fits if the new graph is what a pass makes of the old one that keeps the sequence of the
+    blocks that it keeps, if it joins rows of them, puts one in front, or puts some behind for edges.
+    """
+    others = range(1, len(old))
+    found = []
+    for row in _ascending_rows(others, len(new) - 1):
+        starts = (0, *row)
+        found.append(tuple([(start, 1) for start in starts]))
+        found.append(tuple([(start, _length_up_to(old, start, starts)) for start in starts]))
+    for row in _ascending_rows(others, len(new) - 2):
+        found.append(((0, 0), (0, 1), *[(start, 1) for start in row]))
+    goals = [_goals(end) for _, end in new[len(old):]]
+    if goals and all([len(row) == 1 and row[0] < len(old) for row in goals]):
+        found.append(tuple([(start, 1) for start in range(len(old))] + [(row[0], 0) for row in goals]))
+    return found
+
+
+def _tried_papers(pair):
+    """Return the list of the papers to be tried: the one that is found by guesses, and known ones for small graphs."""
+    rows = _found(pair)
+    found = []
+    if rows is not None:
+        # What the old graph does in blocks that can't be come to does not matter.
+        found.append(tuple([rows.get(block, (0, 1)) for block in range(len(pair.new))]))
+    elif len(pair.old) <= SMALL and len(pair.new) <= SMALL:
+        found.extend(_known_papers(pair.old, pair.new))
+    return found
+
+
 def _paper(old, new):
     """Return a paper that shows that both graphs have the same meaning, or None, for what are known to be graphs."""
-    rows = _found(Pair(old, new)) if len(old[0]) == len(new[0]) else None
-    if rows is None:
+    if len(old[0]) != len(new[0]):
         return None
-    # What the old graph does in blocks that can't be come to does not matter.
-    found = tuple([rows.get(block, (0, 1)) for block in range(len(new[1]))])
-    return found if agrees_so(old, new, found) else None
+    for told in _tried_papers(Pair(old, new)):
+        if agrees_so(old, new, told):
+            return told
+    return None
 
 
 def paper(old, new):

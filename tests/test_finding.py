@@ -2,6 +2,7 @@
 
 import random
 import unittest
+from unittest import mock
 
 from flowkeep.boxes import in_boxes
 from flowkeep.classes import shared
@@ -116,6 +117,26 @@ class PassesTest(unittest.TestCase):
                 self.assertIs(agrees(graph, new, told), True)
                 shown += 1
         self.assertGreater(shown, 50)
+
+
+class WithoutGuessesTest(unittest.TestCase):
+    """What the passes that keep the sequence of blocks make is found even where no guess has led to it."""
+
+    def test_drawn_graphs(self):
+        chance = random.Random(8)
+        many = 0
+        with mock.patch("flowkeep.finding.MOST_WORK", 0):
+            for number in range(60):
+                graph = random_plain(chance, 8, (0, 1, 3)[number % 3], NAMES[:1 + number % 5])
+                for start in (graph, single(graph), random_single(chance, 8, 3), random_graph(chance, True, 8, 2)):
+                    for action, new in made_of(start):
+                        if is_small(start) and is_small(new) and action not in (shared, lifted):
+                            told = paper(start, new)
+                            self.assertIsNotNone(told, (action.__name__, start, new))
+                            self.assertIs(agrees(start, new, told), True)
+                            many += 1
+            self.assertIsNone(paper(L, D))
+        self.assertGreater(many, 500)
 
 
 class OthersTest(unittest.TestCase):
