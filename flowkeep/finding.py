@@ -242,7 +242,7 @@ def _known_papers(old, new):
     One of them fits if the new graph is what a pass makes of the old one that keeps the sequence of the
     blocks that it keeps, if it joins rows of them, puts one in front, or puts some behind for edges.
     """
-    others = range(1, len(old))
+    others = list(range(1, len(old)))
     found = []
     for row in _ascending_rows(others, len(new) - 1):
         starts = (0, *row)
